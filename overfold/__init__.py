@@ -1,0 +1,1 @@
+"""Overfold: shelves laid over one another."""
