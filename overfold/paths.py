@@ -16,13 +16,17 @@ def path_text(path):
 
 
 def path_in(text):
+    return path_up_to(text, MOST_NAMES)
+
+
+def path_up_to(text, most):
     # The root is the one path whose text ends with a stroke.
     if text == "/":
         return ()
     if not text.startswith("/"):
         return None
     names = text[1:].split("/")
-    if len(names) > MOST_NAMES or not all([is_name(name) for name in names]):
+    if len(names) > most or not all([is_name(name) for name in names]):
         return None
     return tuple(names)
 

@@ -86,6 +86,15 @@ def paths_of(root, thing):
     return [path for path, other in things_beneath(root) if other == thing]
 
 
+# Paths come rising, so the one that a file is met by first is the least of its names.
+def first_paths(root):
+    firsts = {}
+    for path, thing in things_beneath(root):
+        if is_file(thing):
+            firsts.setdefault(thing, path)
+    return firsts
+
+
 def same_file_at(root, path, other):
     thing = thing_at(root, path)
     return is_file(thing) and thing == thing_at(root, other)

@@ -24,6 +24,13 @@ NO_ATTRIBUTES = """register mro elements open input version_info with_traceback 
 sort casefold encode""".split()
 # Names of modules and interactive helpers that builtins does not always hold.
 NO_NAMES = "attrgetter builtins copyright credits exit gc help importlib license methodcaller os quit sys".split()
+METHODS = """append clear copy count endswith extend find get index insert isalnum isalpha isdigit islower isspace isupper
+items join keys ljust lower lstrip partition pop remove replace reverse rfind rjust rpartition rsplit rstrip setdefault
+split splitlines startswith strip update upper values zfill bit_length""".split()
+KEYWORDS = {"sorted": ["key", "reverse"], "min": ["key", "default"], "max": ["key", "default"], "sum": ["start"],
+            "enumerate": ["start"], "zip": ["strict"]}
+WALKED = "zip enumerate reversed range items keys values".split()
+WALKERS = "list tuple dict sorted sum any all enumerate zip min max join".split()
 
 
 def files():
@@ -44,6 +51,30 @@ def names_bound(node):
     if isinstance(node, ast.ExceptHandler) and node.name:
         return [node.name]
     return []
+
+
+def called_name(node):
+    if not isinstance(node, ast.Call):
+        return None
+    return node.func.id if isinstance(node.func, ast.Name) else getattr(node.func, "attr", None)
+
+
+def top_names(path):
+    """What a file binds at its top, imports too."""
+    bound = []
+    for node in ast.parse(path.read_text(encoding="utf-8")).body:
+        if isinstance(node, ast.ImportFrom):
+            bound += [alias.name for alias in node.names]
+        elif isinstance(node, ast.Assign):
+            bound += names_bound(node.targets[0])
+        else:
+            bound += names_bound(node)
+    return bound
+
+
+def drawn_from(path):
+    return [PACKAGE / (node.module.partition(".")[2] + ".py")
+            for node in nodes_of(path) if isinstance(node, ast.ImportFrom)]
 
 
 class Language(unittest.TestCase):
@@ -147,6 +178,79 @@ class Language(unittest.TestCase):
             elif isinstance(node.ctx, ast.Store):
                 values.add(node.attr)
         self.assertEqual(methods & values, set())
+
+    def test_a_files_top_binds_each_name_once(self):
+        for path in files():
+            for node in ast.parse(path.read_text(encoding="utf-8")).body:
+                self.assertIsInstance(node, (ast.Expr, ast.ImportFrom, ast.FunctionDef, ast.ClassDef, ast.Assign))
+            bound = top_names(path)
+            self.assertEqual(len(bound), len(set(bound)), path.name)
+            inner = [name for node in nodes_of(path) if isinstance(node, (ast.arg, ast.Name, ast.ExceptHandler))
+                     for name in names_bound(node) if getattr(node, "col_offset", 1) > 0]
+            self.assertEqual(set(inner) & set(bound), set(), path.name)
+
+    def test_a_call_alone_is_the_one_statement_of_a_value(self):
+        for path in files():
+            tree = ast.parse(path.read_text(encoding="utf-8"))
+            for node in ast.walk(tree):
+                if isinstance(node, ast.Expr) and node != tree.body[0]:
+                    self.assertIsInstance(node.value, ast.Call, f"{path.name}:{node.lineno}")
+
+    def test_no_two_files_draw_from_one_another(self):
+        for path in files():
+            reached, waiting = set(), drawn_from(path)
+            while waiting:
+                other = waiting.pop()
+                if other not in reached:
+                    reached.add(other)
+                    waiting += drawn_from(other)
+            self.assertNotIn(path, reached)
+
+    def test_values_are_given_through_a_local_name(self):
+        for path in files():
+            for node in nodes_of(path):
+                if isinstance(node, ast.Attribute) and isinstance(node.ctx, ast.Store):
+                    self.assertIsInstance(node.value, ast.Name, f"{path.name}:{node.lineno}")
+                    self.assertNotIn(node.value.id, top_names(path), f"{path.name}:{node.lineno}")
+
+    def test_methods_are_own_ones_or_those_listed(self):
+        own = [inner.name for where, node in self.each_node(ast.ClassDef) for inner in node.body
+               if isinstance(inner, ast.FunctionDef)]
+        for where, node in self.each_node(ast.Call):
+            if isinstance(node.func, ast.Attribute):
+                self.assertIn(node.func.attr, own + METHODS + DUNDERS, where)
+
+    def test_keywords_stand_where_they_may(self):
+        for where, node in self.each_node(ast.Call):
+            name = called_name(node)
+            if isinstance(node.func, ast.Attribute) or name in OWN_NAMES:
+                for keyword in node.keywords:
+                    self.assertIn(keyword.arg, KEYWORDS.get(name, []), where)
+
+    def test_walked_at_once(self):
+        for path in files():
+            fine = []
+            for node in nodes_of(path):
+                if isinstance(node, (ast.For, ast.comprehension)):
+                    fine.append(node.iter)
+                if called_name(node) in WALKERS:
+                    fine += node.args
+            for node in nodes_of(path):
+                if called_name(node) in WALKED:
+                    self.assertIn(ast.dump(node), [ast.dump(inner) for inner in fine], f"{path.name}:{node.lineno}")
+
+    def test_texts_have_no_percent_sign(self):
+        for where, node in self.each_node(ast.Constant):
+            if isinstance(node.value, str):
+                self.assertNotIn("%", node.value, where)
+
+    def test_errors_are_made_on_the_spot_and_taken_by_name(self):
+        for where, node in self.each_node(ast.Raise, ast.ExceptHandler):
+            if isinstance(node, ast.Raise):
+                self.assertIsInstance(node.exc, ast.Call, where)
+            else:
+                self.assertIsInstance(node.type, ast.Name, where)
+                self.assertNotIn(node.type.id, ["Exception", "TypeError"], where)
 
 
 if __name__ == "__main__":

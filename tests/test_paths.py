@@ -3,7 +3,7 @@ import itertools
 import unittest
 
 from overfold import paths
-from overfold.paths import is_beneath, is_name, moved_path, parent_of, path_in, path_text
+from overfold.paths import is_beneath, is_name, moved_path, parent_of, path_in, path_text, path_up_to
 
 EIGHT = ("a", "bb", "ccc", "dddd", "eeeee", "ffffff", "ggggggg", "hhhhhhhh")
 SOME = [(), ("a",), ("ab",), ("b",), ("a", "b"), ("ab", "b"), ("a", "b", "c"), ("b", "a"), ("a", "a")]
@@ -189,6 +189,18 @@ class Order(unittest.TestCase):
         texts = ["/b", "/ab", "/a/b", "/", "/a/b/c", "/a"]
         self.assertEqual([path_text(path) for path in sorted([path_in(text) for text in texts])],
                          ["/", "/a", "/a/b", "/a/b/c", "/ab", "/b"])
+
+
+class PathUpTo(unittest.TestCase):
+    def test_as_many_names_as_told(self):
+        for most in [1, 8, 9]:
+            self.assertEqual(path_up_to("/a" * most, most), ("a",) * most)
+            self.assertIsNone(path_up_to("/a" * (most + 1), most))
+            self.assertEqual(path_up_to("/", most), ())
+
+    def test_what_writes_no_path(self):
+        for text in ["", "a", "/a/", "//", "/a//b", "/A", "/abcdefghi"]:
+            self.assertIsNone(path_up_to(text, 9), text)
 
 
 if __name__ == "__main__":

@@ -3,9 +3,9 @@ import unittest
 
 from overfold.errors import NoThing, NotEmpty, ShelfError, Taken, TooDeep, Within, WrongKind
 from overfold.paths import is_beneath, moved_path, path_in
-from overfold.tree import (File, Folder, add_name, drop_name, found_file, found_folder, found_thing, height_of,
-                           is_file, is_folder, kind_at, link_name, move_name, names_within, paths_of, same_file_at,
-                           swap_names, thing_at, things_beneath)
+from overfold.tree import (File, Folder, add_name, drop_name, first_paths, found_file, found_folder, found_thing,
+                           height_of, is_file, is_folder, kind_at, link_name, move_name, names_within, paths_of,
+                           same_file_at, swap_names, thing_at, things_beneath)
 
 A, B, C, F, G, X = [(name,) for name in "abcfgx"]
 
@@ -158,6 +158,12 @@ class Walking(unittest.TestCase):
 
     def test_paths_of_what_has_no_name(self):
         self.assertEqual(paths_of(sample(), File("top")), [])
+
+    def test_first_paths_are_the_least_of_each_files_names(self):
+        root = sample()
+        firsts = [(path, thing.text) for thing, path in first_paths(root).items()]
+        self.assertEqual(sorted(firsts), [(("a", "b", "f"), "deep"), (("a", "g"), "one"), (F, "top")])
+        self.assertEqual(first_paths(Folder()), {})
 
     def test_same_file(self):
         root = sample()
