@@ -108,3 +108,9 @@ class Shelf:
             else:
                 rows.append((path, "file", thing.text, firsts[thing]))
         return rows
+
+
+def shelf_with(root):
+    shelf = Shelf()
+    shelf.root = root
+    return shelf

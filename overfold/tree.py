@@ -8,15 +8,19 @@ from overfold.errors import NoThing, NotEmpty, Taken, TooDeep, Within, WrongKind
 from overfold.paths import MOST_NAMES, is_beneath, parent_of, path_text
 
 
+# What lies beneath is told by a path in the shelf beneath, not by the thing there: so a thing that moves keeps it, and
+# no tree holds on to another one. What is newly made has none.
 class Folder:
     def __init__(self):
         self.by_name = {}
+        self.beneath = None
 
 
 # A file doesn't know its names: it lives on where it has none, as long as somebody holds it.
 class File:
     def __init__(self, text):
         self.text = text
+        self.origin = None
 
 
 def is_folder(thing):
@@ -34,6 +38,15 @@ def thing_at(root, path):
             return None
         thing = thing.by_name[name]
     return thing
+
+
+# The ground is the root of the shelf beneath.
+def folder_below(ground, folder):
+    return None if folder.beneath is None else thing_at(ground, folder.beneath)
+
+
+def file_below(ground, file):
+    return None if file.origin is None else thing_at(ground, file.origin)
 
 
 def kind_at(root, path):

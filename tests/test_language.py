@@ -239,6 +239,18 @@ class Language(unittest.TestCase):
                 if called_name(node) in WALKED:
                     self.assertIn(ast.dump(node), [ast.dump(inner) for inner in fine], f"{path.name}:{node.lineno}")
 
+    def test_sets_are_not_kept(self):
+        for path in files():
+            nodes = nodes_of(path)
+            above = {inner: node for node in nodes for inner in ast.iter_child_nodes(node)}
+            for node in nodes:
+                if called_name(node) == "set" or isinstance(node, ast.Set):
+                    outer = above[node]
+                    while isinstance(outer, ast.BinOp):
+                        outer = above[outer]
+                    fine = isinstance(outer, ast.Compare) or called_name(outer) in ("sorted", "len")
+                    self.assertTrue(fine, f"{path.name}:{node.lineno}")
+
     def test_texts_have_no_percent_sign(self):
         for where, node in self.each_node(ast.Constant):
             if isinstance(node.value, str):

@@ -3,9 +3,9 @@ import unittest
 
 from overfold.errors import NoThing, NotEmpty, ShelfError, Taken, TooDeep, Within, WrongKind
 from overfold.paths import is_beneath, moved_path, path_in
-from overfold.tree import (File, Folder, add_name, drop_name, first_paths, found_file, found_folder, found_thing,
-                           height_of, is_file, is_folder, kind_at, link_name, move_name, names_within, paths_of,
-                           same_file_at, swap_names, thing_at, things_beneath)
+from overfold.tree import (File, Folder, add_name, drop_name, file_below, first_paths, folder_below, found_file,
+                           found_folder, found_thing, height_of, is_file, is_folder, kind_at, link_name, move_name,
+                           names_within, paths_of, same_file_at, swap_names, thing_at, things_beneath)
 
 A, B, C, F, G, X = [(name,) for name in "abcfgx"]
 
@@ -55,6 +55,29 @@ class Things(unittest.TestCase):
     def test_a_file_has_its_text(self):
         self.assertEqual(File("some text").text, "some text")
         self.assertEqual(File("").text, "")
+
+    def test_what_is_new_has_nothing_beneath(self):
+        root, folder, file = sample(), Folder(), File("t")
+        self.assertIsNone(folder_below(root, folder))
+        self.assertIsNone(file_below(root, file))
+
+    def test_what_lies_beneath_is_found_in_the_ground(self):
+        ground, folder, file = sample(), Folder(), File("t")
+        folder.beneath, file.origin = ("a", "b"), F
+        self.assertIs(folder_below(ground, folder), thing_at(ground, ("a", "b")))
+        self.assertIs(file_below(ground, file), thing_at(ground, F))
+        folder.beneath = ()
+        self.assertIs(folder_below(ground, folder), ground)
+
+    def test_deeds_keep_what_lies_beneath(self):
+        root = sample()
+        folder, file = thing_at(root, A), thing_at(root, F)
+        folder.beneath, file.origin = C, X
+        swap_names(root, A, F)
+        move_name(root, F, ("c", "n"))
+        link_name(root, A, B)
+        self.assertEqual(thing_at(root, ("c", "n")).beneath, C)
+        self.assertEqual(thing_at(root, B).origin, X)
 
     def test_kinds(self):
         self.assertIs(is_folder(Folder()), True)
