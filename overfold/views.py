@@ -46,20 +46,22 @@ def fitted(ground, layer, number):
 
 
 def misfit_over(ground, layer):
-    found = misfit_of_rows(ground, layer)
+    found = misfits_of_rows(ground, layer)
     # A layer that tells of what isn't there can't be laid at all, so these rows are asked first.
-    return misfit_of_things(laid(ground, layer)) if found is None else found
+    return misfit_of_things(laid(ground, layer)) if found == [] else found[0]
 
 
-def misfit_of_rows(ground, layer):
+# All folder rows and pairs that tell of what isn't there, in their order.
+def misfits_of_rows(ground, layer):
+    found = []
     for row in layer[0]:
         if row[1] == "folder" and row[2] is not None and kind_at(ground, row[2]) != "folder":
-            return ("entry", row[0])
+            found.append(("entry", row[0]))
     origins = list(first_paths(ground).values())
     for number, pair in enumerate(layer[1]):
         if pair[0] is not None and pair[0] not in origins:
-            return ("file", number)
-    return None
+            found.append(("file", number))
+    return found
 
 
 def misfit_of_things(root):

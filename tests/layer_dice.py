@@ -1,7 +1,11 @@
 """Layers that come by chance, in the same row at each run."""
 
+from overfold.doing import done
 from overfold.paths import path_text
+from overfold.tops import Top
 from layer_help import BASE, Stack
+from shelf_model import a_deed
+from top_model import TopModel
 
 
 class LayerMaker:
@@ -91,3 +95,21 @@ def some_layers(dice, count):
         if len(layers) < count and Stack(layers + [layer]).misfit() is None:
             layers.append(layer)
     return layers
+
+
+def layers_by_deeds(dice, count, turns):
+    """So many layers, each told by a top behind a row of deeds, swaps and moves most of all."""
+    layers = [BASE] if dice.below(2) else []
+    while len(layers) < count:
+        top, model = Top(layers, 10 ** 6), TopModel(layers)
+        for turn in range(turns):
+            deed = a_deed(dice, model)
+            model.done(deed)
+            done(top, deed)
+        if model.is_within_bounds():
+            layers.append(top.told_layer())
+    return layers
+
+
+def layers_of_both(dice, count):
+    return some_layers(dice, count) if dice.below(2) else layers_by_deeds(dice, count, 5 + dice.below(60))

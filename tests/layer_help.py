@@ -3,6 +3,9 @@
 The model asks path by path, from the last layer down, what DOC.md's words say of that one path.
 """
 
+import unittest
+
+from overfold.errors import NoFit
 from overfold.layers import read_layer
 from overfold.paths import path_text
 
@@ -17,6 +20,18 @@ EMPTY = ((), ())
 BASE = lay(
     "folder /a alone", "folder /a/b alone", "file /a/b/f 0", "file /a/g 1", "folder /c alone", "file /c/g 1",
     "folder /e alone", "file /f 2", "file /x 2", "data =deep", "data =one", "data =top")
+
+# Two hundred names in one folder, as short as they come.
+MANY_NAMES = [one + two for one in "abcdefgh" for two in "abcdefghijklmnopqrstuvwxy"]
+
+
+class FitTest(unittest.TestCase):
+    def no_fit(self, number, call, *handed):
+        """The call is refused with NoFit alone, which bears that number."""
+        with self.assertRaises(NoFit) as caught:
+            call(*handed)
+        self.assertIs(type(caught.exception), NoFit)
+        self.assertEqual(caught.exception.number, number)
 
 
 def trace_texts(rows):

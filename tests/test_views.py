@@ -8,12 +8,9 @@ from overfold.errors import NoFit
 from overfold.shelf import Shelf
 from overfold.views import misfit, shown, traced
 from layer_dice import LayerMaker, row_text, some_layers
-from layer_help import BASE, EMPTY, Stack, lay, trace_texts
+from layer_help import BASE, EMPTY, MANY_NAMES, Stack, lay, trace_texts
 from shelf_help import chain, p, sample, state_of, walk_texts
 from shelf_model import Dice
-
-# Two hundred names in one folder, as short as they come.
-MANY_NAMES = [one + two for one in "abcdefgh" for two in "abcdefghijklmnopqrstuvwxy"]
 
 
 def one_file_rows(paths):
