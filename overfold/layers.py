@@ -46,7 +46,7 @@ def read_layer(text):
             raise BadLayer(f"row {at} can't stand there", at)
     if not reader.is_whole():
         raise BadLayer("the rows and the files don't meet", len(rows))
-    return (tuple(reader.entries), tuple(reader.files))
+    return reader.layer_read()
 
 
 # Beside the rows taken so far it keeps what the next one is held against.
@@ -93,6 +93,9 @@ class Reader:
     def is_whole(self):
         homeless = [at for at, pair in enumerate(self.files) if pair[0] is None and at not in self.numbers]
         return homeless == [] and all([number < len(self.files) for number in self.numbers])
+
+    def layer_read(self):
+        return (tuple(self.entries), tuple(self.files))
 
 
 def entry_in(row):
