@@ -65,7 +65,7 @@ class StoryReader:
         self.layer_reader = None
         self.room = None
         self.steps = []
-        # How many layers will be there when the next step is done.
+        # How many layers are there when the next step is done.
         self.layers_then = 0
 
     def took_row(self, row):
@@ -79,13 +79,14 @@ class StoryReader:
 
     def took_layers_start(self):
         self.layer_reader = Reader()
-        return len(self.layers) < MOST_LAYERS
+        return self.layers_then < MOST_LAYERS
 
     def took_layers_end(self):
         layer = self.layer_reader.layer_read()
         if not self.layer_reader.is_whole() or misfit(self.layers, layer) is not None:
             return False
         self.layers.append(layer)
+        self.layers_then += 1
         self.layer_reader = None
         return True
 
@@ -94,7 +95,6 @@ class StoryReader:
         if words[0] != "room" or len(words) != 2:
             return False
         self.room = number_in(words[1], MOST_NUMBER)
-        self.layers_then = len(self.layers)
         return self.room is not None
 
     def took_step(self, row):

@@ -179,6 +179,42 @@ class Language(unittest.TestCase):
                 values.add(node.attr)
         self.assertEqual(methods & values, set())
 
+    def test_own_methods_and_values_are_free(self):
+        pythons = {name for kind in (str, int, list, tuple, dict, set, bytes) for name in dir(kind)}
+        for where, node in self.each_node(ast.ClassDef, ast.Attribute):
+            if isinstance(node, ast.ClassDef):
+                names = [inner.name for inner in node.body if isinstance(inner, ast.FunctionDef)]
+                self.assertEqual(set(names) & pythons - set(DUNDERS), set(), where)
+            elif isinstance(node.ctx, ast.Store):
+                self.assertNotIn(node.attr, pythons, where)
+
+    def test_a_files_top_holds_plain_values(self):
+        for path in files():
+            body = ast.parse(path.read_text(encoding="utf-8")).body
+            functions = [node.name for node in body if isinstance(node, ast.FunctionDef)]
+            for node in body:
+                if isinstance(node, ast.Assign):
+                    self.assertIsInstance(node.targets[0], ast.Name, f"{path.name}:{node.lineno}")
+                    for inner in ast.walk(node.value):
+                        self.assertIsInstance(inner, (ast.Constant, ast.Tuple, ast.Dict, ast.List, ast.Name, ast.Load))
+                        if isinstance(inner, (ast.Dict, ast.List)):
+                            self.assertIs(inner, node.value, f"{path.name}:{node.lineno}")
+                        if isinstance(inner, ast.Name):
+                            self.assertIn(inner.id, functions, f"{path.name}:{node.lineno}")
+
+    def test_a_files_top_is_only_read(self):
+        """A list or dict there is asked by an index, in, len or a walk, and never handed on as it is."""
+        for path in files():
+            nodes = nodes_of(path)
+            above = {inner: node for node in nodes for inner in ast.iter_child_nodes(node)}
+            kept = [node.targets[0].id for node in nodes if isinstance(node, ast.Assign) and node.col_offset == 0
+                    and isinstance(node.value, (ast.Dict, ast.List))]
+            for node in nodes:
+                if isinstance(node, ast.Name) and node.id in kept and isinstance(node.ctx, ast.Load):
+                    where = f"{path.name}:{node.lineno}"
+                    self.assertIsInstance(above[node], (ast.Subscript, ast.Compare, ast.For), where)
+                    self.assertNotIsInstance(getattr(above[node], "ctx", None), ast.Store, where)
+
     def test_a_files_top_binds_each_name_once(self):
         for path in files():
             for node in ast.parse(path.read_text(encoding="utf-8")).body:

@@ -39,7 +39,8 @@ class Deeds(StoryTest):
                    ("write /a =t", "refused WrongKind"), ("write /q =t", "refused NoThing"),
                    ("put /f 199 =ab", "refused TooLong"), ("put / 0 =", "refused WrongKind"),
                    ("cut /q 1", "refused NoThing"), ("link /f /x", "refused Taken"),
-                   ("link /a /n", "refused WrongKind"), ("drop /", "refused Within"), ("drop /a", "refused NotEmpty"), ("drop /q", "refused NoThing"),
+                   ("link /a /n", "refused WrongKind"), ("drop /", "refused Within"), ("drop /a", "refused NotEmpty"),
+                   ("drop /q", "refused NoThing"),
                    ("move / /n", "refused Within"), ("move /a /a/b/n", "refused Within"),
                    ("move /e /f", "refused WrongKind"), ("move /e /a", "refused NotEmpty"),
                    ("swap /a /a/b", "refused Within"), ("swap /a /q", "refused NoThing"),
@@ -80,7 +81,9 @@ class Deeds(StoryTest):
                    ("write /f =; ", "done"), ("layer", "file /f 0; data =; "))
 
     def test_a_text_that_reads_as_a_row(self):
-        self.tells(ROOM, ("make_file /f =end", "done"), ("write /f =seal", "done"), ("text /f", "=seal"))
+        self.tells(ROOM, ("make_file /f =end", "done"), ("write /f =seal", "done"), ("text /f", "=seal"),
+                   *[("write /f =seal", "done"), ("write /f =press 0", "done")] * 4, *[("seal", "done")] * 6,
+                   ("write /f =layer", "done"), ("text /f", "=layer"))
 
     def test_numbers_and_paths_at_their_bounds(self):
         deep = "/aaaaaaaa" * 8
@@ -134,6 +137,16 @@ class Asks(StoryTest):
                    ("make_file /m =", "done"), ("link /x /y", "done"),
                    ("layer", "gone /a; file /m 1; folder /n over /a; gone /n/g; file /y 0; data of /f =a; b; data ="))
 
+    def test_layer_with_a_mark_of_nine_names(self):
+        deep = ["folder " + "/a" * count + " alone" for count in range(1, 8)]
+        head = ["layer", *deep, "folder /b alone", "file /b/f 0", "data =t", "end"] + ROOM
+        told = "; ".join(["folder " + "/a" * count + " over " + "/a" * count for count in range(1, 8)] + [
+            "folder " + "/a" * 8 + " over /b", "gone " + "/a" * 8 + "/f", "gone /b"])
+        self.tells(head, ("move /b " + "/a" * 8, "refused TooDeep"), ("hold /b/f", "done 1"), ("drop /b/f", "done"),
+                   ("move /b " + "/a" * 8, "done"), ("layer", told), ("used", "10"), ("read_by 1", "=t"),
+                   ("held " + "/a" * 8, "0 1"), ("seal", "done"), ("names " + "/a" * 8, ""), ("press 0", "done"),
+                   ("held " + "/a" * 8, "0"), ("held /b", "refused NoThing"), ("layer", ""))
+
     def test_held(self):
         head = BASE_ROWS + ["layer", "folder /a over /a", "file /a/n 0", "data =new", "data of /f =other", "end"] + ROOM
         self.tells(head, ("held /", "0 1 2"), ("held /a", "0 1"), ("held /a/b", "0"), ("held /a/b/f", "0"),
@@ -176,7 +189,8 @@ class Press(StoryTest):
     def test_the_top_goes_on(self):
         """The handles, what the top tells and its room are the same behind a press as ahead."""
         ahead = [("hold /f", "done 1"), ("hold /m/b/f", "done 2"), ("write_by 1 =mine", "done"),
-                 ("drop /m/b/f", "done"), ("write_by 2 =out of sight", "done"), ("move /m /k", "done"), ("make_file /k/z =", "done")]
+                 ("drop /m/b/f", "done"), ("write_by 2 =out of sight", "done"), ("move /m /k", "done"),
+                 ("make_file /k/z =", "done")]
         told = "folder /k over /m; folder /k/b over /m/b; gone /k/b/f; file /k/z 1; gone /m; data of /f =mine; data ="
         asks = [("layer", told), ("used", "24"), ("free", "976"), ("read_by 1", "=mine"),
                 ("read_by 2", "=out of sight"), ("count_by 2", "0"), ("text /x", "=mine")]

@@ -13,7 +13,8 @@ from story_help import BASE_ROWS, StoryTest, story
 # Each word with a row of it that is well written, whether it is done or refused.
 GOOD_ROWS = [
     "make_folder /n", "make_file /n =t", "write /f =t", "put /f 3 =t", "cut /f 2", "link /f /n", "drop /n",
-    "move /a /n", "swap /a /c", "hold /f", "read_by 1", "write_by 1 =t", "put_by 1 3 =t", "cut_by 1 2", "count_by 1", "name_by 1 /n",
+    "move /a /n", "swap /a /c", "hold /f", "read_by 1", "write_by 1 =t", "put_by 1 3 =t", "cut_by 1 2", "count_by 1",
+    "name_by 1 /n",
     "close 1", "kind /a", "text /f", "names /a", "count /f", "same /f /x", "walk", "used", "free", "layer", "held /a",
     "press 0", "seal"]
 # Three layers, so that a press and a seal can be done.
